@@ -1,0 +1,1 @@
+"""Answertrees: letters that name the letters they answer, gathered to talks."""
