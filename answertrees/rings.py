@@ -46,6 +46,7 @@ def rings(pack, marks):
 
 def by_names(pack, marks):
     ties = choices(pack, marks, places(pack, marks))
-    for ring in cut_rings(pack, marks, ties):
+    cut = cut_rings(pack, marks, ties)
+    for ring in cut:
         ties[ring[0]] = (None, ("ring", ring))
     return tuple([(name, ties[name][0], ties[name][1]) for name in sorted(ties)])
