@@ -49,3 +49,43 @@ def asked(test, ask, *things):
     test.assertEqual(ask(*things), answer)
     test.assertEqual(things, kept)
     return answer
+
+
+RULES = (("ahead", "re"), ("label", "list"), ("behind", "was"))
+HEADS = ("Walls", "Re: walls", "RE[2]:  Walls", "[list] walls (was)", "gates", "Re: Gates", "re: [list] re: gates", "", "Re:")
+
+
+def drawn_pack(dice, names="abcdefg", strange="pqr"):
+    """Letters by chance: some of the names come, some only stand in rows."""
+    known = list(names + strange)
+    letters = []
+    for name in names:
+        for _ in range(dice.choice((0, 0, 1, 1, 1, 1, 2))):
+            row = [dice.choice(known) for _ in range(dice.choice((0, 0, 1, 1, 2, 3, 4)))]
+            letters.append(letter(name, row, dice.randrange(5), dice.choice(HEADS)))
+    return tuple(sorted(set(letters)))
+
+
+def drawn_marks(dice, names="abcdefgpqrst"):
+    """Marks by chance, put one behind the other where no ring comes of it."""
+    above = {}
+    for _ in range(dice.choice((0, 0, 1, 2, 3, 5))):
+        name, elder = dice.choice(names), dice.choice(list(names) + [None] * 4)
+        climb = elder
+        while climb is not None and climb != name:
+            climb = above.get(climb)
+        if climb is None:
+            above[name] = elder
+    return tuple(sorted(above.items()))
+
+
+def put(letters, *more):
+    """A pack with further letters put to it."""
+    return tuple(sorted(set(letters + more)))
+
+
+def numbered(many, start="n"):
+    """Names in their order, and their letters, each the answer of the one ahead."""
+    names = [f"{start}{at:04}" for at in range(many)]
+    rows = [()] + [(name,) for name in names[:-1]]
+    return names, pack(*[letter(name, row) for name, row in zip(names, rows)])
