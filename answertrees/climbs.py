@@ -23,6 +23,11 @@ def elders_in(ties):
     return {name: elder for name, elder, reason in ties}
 
 
+def ties_in(ties):
+    """The tie of each name, (elder, reason), of ties told so."""
+    return {name: (elder, reason) for name, elder, reason in ties}
+
+
 def climbed(above, name):
     """The names from one up, each once: in a ring once round."""
     found = {}

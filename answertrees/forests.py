@@ -1,6 +1,6 @@
 """The forest: the trees by names, those put together whose heads are alike."""
 
-from answertrees.climbs import elders_in
+from answertrees.climbs import elders_in, ties_in
 from answertrees.elders import standing
 from answertrees.peeling import bare, is_answer
 from answertrees.rings import by_names
@@ -46,7 +46,6 @@ def shown(pack, above):
 def forest(pack, marks, rules):
     by_name = by_names(pack, marks)
     seen = shown(pack, elders_in(by_name))
-    by_head = ties_by_heads(pack, marks, rules)
-    ties = {name: (elder, reason) for name, elder, reason in by_name if name in seen}
-    ties.update(by_head)
-    return tuple([(name, ties[name][0], ties[name][1]) for name in sorted(ties)])
+    ties = ties_in(by_name)
+    ties.update(ties_by_heads(pack, marks, rules))
+    return tuple([(name, ties[name][0], ties[name][1]) for name in sorted(seen)])
