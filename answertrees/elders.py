@@ -16,6 +16,11 @@ def standing(pack):
     return tuple(first.values())
 
 
+def days_of(pack):
+    """The day of each letter, by its name."""
+    return {letter[0]: letter[1] for letter in standing(pack)}
+
+
 def borne(pack, name):
     for letter in pack:
         if letter[0] == name:

@@ -2,7 +2,7 @@
 
 from answertrees.claims import naming
 from answertrees.climbs import climbed, elders_in, ties_in
-from answertrees.elders import standing
+from answertrees.elders import days_of
 from answertrees.errors import NoPlace
 from answertrees.forests import forest
 from answertrees.letters import is_name, rises
@@ -24,7 +24,7 @@ class Grove:
         self.told = forest(pack, marks, rules)
         self.bonds = ties_in(self.told)
         self.above = elders_in(self.told)
-        self.days = {letter[0]: letter[1] for letter in standing(pack)}
+        self.days = days_of(pack)
         self.seen = {name: True for name in reads}
         self.sums = sums_of(self.above, self.days, self.seen)
         beneath = beneath_in(self.above)

@@ -10,10 +10,13 @@ def is_mark(thing):
     return thing[1] is None or is_name(thing[1]) and thing[1] != thing[0]
 
 
+def has_ring(marks):
+    """Whether marks, but for a ring perhaps, go round somewhere."""
+    return rings_in({name: elder for name, elder in marks}) != []
+
+
 def is_marks(thing):
     if not isinstance(thing, tuple) or not all([is_mark(part) for part in thing]):
         return False
     # By names alone: None and a name can't be compared.
-    if not rises([name for name, elder in thing]):
-        return False
-    return rings_in({name: elder for name, elder in thing}) == []
+    return rises([name for name, elder in thing]) and not has_ring(thing)

@@ -13,11 +13,13 @@ def is_name(thing):
     return all([sign in NAME_SIGNS for sign in thing])
 
 
-def is_day(thing):
+def is_whole(thing):
     # True and False are ints to Python, but no whole numbers here.
-    if not isinstance(thing, int) or isinstance(thing, bool):
-        return False
-    return 0 <= thing <= LAST_DAY
+    return isinstance(thing, int) and not isinstance(thing, bool)
+
+
+def is_day(thing):
+    return is_whole(thing) and 0 <= thing <= LAST_DAY
 
 
 def is_head(thing):

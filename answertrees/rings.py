@@ -2,7 +2,7 @@
 
 from answertrees.claims import choices
 from answertrees.climbs import rings_in
-from answertrees.elders import elders, standing
+from answertrees.elders import days_of, elders, standing
 
 
 def places(pack, marks):
@@ -35,7 +35,7 @@ def begun_with(ring, name):
 def cut_rings(pack, marks, ties):
     """The rings of ties, a dict of (elder, reason), each begun with the one that is cut."""
     held = {name: True for name, elder in marks}
-    days = {letter[0]: letter[1] for letter in standing(pack)}
+    days = days_of(pack)
     round_about = rings_in({name: ties[name][0] for name in ties})
     return tuple(sorted([begun_with(ring, cut_one(ring, held, days)) for ring in round_about]))
 

@@ -89,3 +89,38 @@ def numbered(many, start="n"):
     names = [f"{start}{at:04}" for at in range(many)]
     rows = [()] + [(name,) for name in names[:-1]]
     return names, pack(*[letter(name, row) for name, row in zip(names, rows)])
+
+
+LETTER = letter("a", ("b", "c"), 7, "Walls")
+DEEDS = (
+    ("come", LETTER), ("go", LETTER), ("join", "a", "b"), ("split", "a"), ("free", "a"), ("read", "a"), ("unread", "a"))
+
+NO_DEEDS = (
+    (), ("come",), ("go",), ("join",), ("split",), ("join", "a"), ("join", "a", "b", "c"), ("split", "a", "b"), ("split", "a", "b", "c"),
+    ("free", "a", "b"), ("read", "a", "b"), ("unread", "a", None), ("come", LETTER, LETTER), ("go", LETTER, "a"),
+    ("come", LETTER, "b"), ("come", LETTER, "a", "b"), ("come", "a", "b"),
+    ("join", "a", "a"), ("join", "a", None), ("join", "a", "B"), ("join", "", "b"), ("join", "a", ""),
+    ("join", "a", ("b",)), ("join", LETTER, "b"), ("join", "a", LETTER),
+    ("come", "a"), ("go", "a"), ("split", LETTER), ("read", LETTER), ("free", LETTER), ("unread", LETTER),
+    ("come", LETTER[:3]), ("come", LETTER + ("a",)), ("come", list(LETTER)), ("come", ("a", True, "", ())),
+    ("come", ("a", -1, "", ())), ("come", ("a", 1, "", ["b"])), ("go", ("A", 1, "", ())), ("go", None),
+    ("split", ""), ("split", "z" * 13), ("split", None), ("split", 1), ("split", ("a",)), ("read", ["a"]), ("unread", "A"),
+    ("Come", LETTER), ("comes", LETTER), ("com", LETTER), ("", LETTER), ("leave", LETTER), ("tie", "a", "b"),
+    ("splits", "a"), ("", "a"), (None, "a"), (1, "a"), (True, "a"), (b"read", "a"), (("read",), "a"), (["read"], "a"),
+    ["read", "a"], ["come", LETTER], ["join", "a", "b"], "read a", "read", {"read": "a"}, ("a", "read"),
+    (("read", "a"),), ("read", "a", ()))
+
+
+def done(*deeds):
+    """A log in which all deeds stand."""
+    return tuple((deed, True) for deed in deeds)
+
+
+def drawn_deed(dice, letters, names="abcdefgpqrst"):
+    """A deed by chance, of one of the letters or of names."""
+    word = dice.choice(("come",) * 4 + ("join",) * 3 + ("go", "split", "free", "read", "unread"))
+    if word in ("come", "go"):
+        return (word, dice.choice(letters))
+    if word == "join":
+        return (word, *dice.sample(names, 2))
+    return (word, dice.choice(names))

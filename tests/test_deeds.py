@@ -2,26 +2,7 @@ import unittest
 from reprlib import repr as short
 
 from answertrees.deeds import is_deed, is_log
-from tests.helper import asked, letter, odd_things
-
-LETTER = letter("a", ("b", "c"), 7, "Walls")
-DEEDS = (
-    ("come", LETTER), ("go", LETTER), ("join", "a", "b"), ("split", "a"), ("free", "a"), ("read", "a"), ("unread", "a"))
-
-WRONG = (
-    (), ("come",), ("go",), ("join",), ("split",), ("join", "a"), ("join", "a", "b", "c"), ("split", "a", "b"), ("split", "a", "b", "c"),
-    ("free", "a", "b"), ("read", "a", "b"), ("unread", "a", None), ("come", LETTER, LETTER), ("go", LETTER, "a"),
-    ("come", LETTER, "b"), ("come", LETTER, "a", "b"), ("come", "a", "b"),
-    ("join", "a", "a"), ("join", "a", None), ("join", "a", "B"), ("join", "", "b"), ("join", "a", ""),
-    ("join", "a", ("b",)), ("join", LETTER, "b"), ("join", "a", LETTER),
-    ("come", "a"), ("go", "a"), ("split", LETTER), ("read", LETTER), ("free", LETTER), ("unread", LETTER),
-    ("come", LETTER[:3]), ("come", LETTER + ("a",)), ("come", list(LETTER)), ("come", ("a", True, "", ())),
-    ("come", ("a", -1, "", ())), ("come", ("a", 1, "", ["b"])), ("go", ("A", 1, "", ())), ("go", None),
-    ("split", ""), ("split", "z" * 13), ("split", None), ("split", 1), ("split", ("a",)), ("read", ["a"]), ("unread", "A"),
-    ("Come", LETTER), ("comes", LETTER), ("com", LETTER), ("", LETTER), ("leave", LETTER), ("tie", "a", "b"),
-    ("splits", "a"), ("", "a"), (None, "a"), (1, "a"), (True, "a"), (b"read", "a"), (("read",), "a"), (["read"], "a"),
-    ["read", "a"], ["come", LETTER], ["join", "a", "b"], "read a", "read", {"read": "a"}, ("a", "read"),
-    (("read", "a"),), ("read", "a", ()))
+from tests.helper import DEEDS, LETTER, NO_DEEDS, asked, odd_things
 
 
 class IsDeed(unittest.TestCase):
@@ -32,7 +13,7 @@ class IsDeed(unittest.TestCase):
         self.assertIs(is_deed(("split", "z" * 12)), True)
 
     def test_no_deeds(self):
-        for thing in WRONG:
+        for thing in NO_DEEDS:
             self.assertIs(asked(self, is_deed, thing), False, thing)
 
     def test_anything(self):
@@ -66,7 +47,7 @@ class IsLog(unittest.TestCase):
             self.assertIs(asked(self, is_log, (thing,)), False, thing)
             self.assertIs(asked(self, is_log, ((deed, True), thing)), False, thing)
             self.assertIs(asked(self, is_log, (thing, (deed, True))), False, thing)
-        for thing in WRONG:
+        for thing in NO_DEEDS:
             self.assertIs(asked(self, is_log, ((thing, True),)), False, thing)
         self.assertIs(is_log([(deed, True)]), False)
         self.assertIs(is_log([]), False)

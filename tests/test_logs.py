@@ -7,16 +7,11 @@ from answertrees.groves import is_reads
 from answertrees.hands import is_marks
 from answertrees.letters import is_pack
 from answertrees.logs import marks_of, pack_of, reads_of
-from tests.helper import asked, letter
+from tests.helper import asked, done, letter
 
 ONE = letter("a", (), 1)
 OTHER = letter("a", ("b",), 0)
 THIRD = letter("c", (), 5, "Walls")
-
-
-def done(*deeds):
-    """A log in which all deeds stand."""
-    return tuple((deed, True) for deed in deeds)
 
 
 class Case(unittest.TestCase):
