@@ -40,7 +40,7 @@ class Box:
             raise NoDeed("no deed has this number")
         deed, stood = self.entries[number]
         if stood == stands:
-            raise NoDeed("the deed stands already" if stands else "the deed is taken back already")
+            raise NoDeed("the deed is so already")
         return self.become(self.entries[:number] + ((deed, stands),) + self.entries[number + 1:])
 
     def back(self, number):

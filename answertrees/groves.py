@@ -101,10 +101,14 @@ class Grove:
     def page(self, name, size, at):
         return self.lines(name)[at * size:(at + 1) * size]
 
+    def is_unread(self, name):
+        """Whether a letter bears the name and hasn't been read."""
+        return name in self.days and name not in self.seen
+
     def unread(self, name):
         self.check(name)
         behind = self.spots[name] + 1
         for depth, one in self.order[behind:] + self.order[:behind]:
-            if one in self.days and one not in self.seen:
+            if self.is_unread(one):
                 return one
         return None

@@ -1,6 +1,7 @@
 """What several tests share: things of any kind, letters made short, and a careful asking."""
 
 import copy
+import re
 
 
 class Odd:
@@ -124,3 +125,32 @@ def drawn_deed(dice, letters, names="abcdefgpqrst"):
     if word == "join":
         return (word, *dice.sample(names, 2))
     return (word, dice.choice(names))
+
+
+NAME_FORM = "[a-z0-9]{1,12}"
+LETTER_FORM = f"{NAME_FORM} (0|[1-9][0-9]{{0,7}}) (-|{NAME_FORM}(,{NAME_FORM}){{0,8}}) [ -~]{{0,60}}"
+RULE_FORM = "(ahead|behind|label) [a-z]{1,8}"
+RULES_FORM = f"({RULE_FORM}(, {RULE_FORM}){{0,5}})?"
+SIGNS = list(" \n,-+09aAz~:[]/") + ["\t", "\r", "\x00", "\x7f", "\xe9", "\u0663", "\xb2", "\u2003", "\x85", "  ", "re"]
+
+
+def written(form, text):
+    return re.fullmatch(form, text) is not None
+
+
+def so_written_deed(text):
+    """Whether a text is a deed's: a join has two names that aren't one."""
+    if written(f"(come|go) {LETTER_FORM}|(split|free|read|unread) {NAME_FORM}", text):
+        return True
+    names = re.fullmatch(f"join ({NAME_FORM}) ({NAME_FORM})", text)
+    return names is not None and names[1] != names[2]
+
+
+def near(text, dice=None, many=0):
+    """The texts with one sign put in, left out or exchanged; of many only some, by chance."""
+    found = []
+    for at in range(len(text) + 1):
+        found += [text[:at] + sign + text[at:] for sign in SIGNS]
+        if at < len(text):
+            found += [text[:at] + sign + text[at + 1:] for sign in SIGNS + [""]]
+    return found if dice is None else dice.sample(found, min(many, len(found)))
